@@ -1,0 +1,1 @@
+"""Oneofall: machines that play machines."""
