@@ -29,3 +29,16 @@ def rule_table(rules):
     for rule in rules:
         table.setdefault((rule[0], rule[1]), rule)
     return table
+
+
+class Numbers:
+    """Numbers for the states that a maker makes up: from the first on, one for each key, without gaps."""
+
+    def __init__(self, first):
+        self.first = first
+        self.given = {}
+
+    def number(self, key):
+        if key not in self.given:
+            self.given[key] = self.first + len(self.given)
+        return self.given[key]

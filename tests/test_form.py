@@ -99,9 +99,47 @@ class Form(unittest.TestCase):
             self.assertRegex(node.module, r"^oneofall\.[a-z]+$", name)
             drawn = ast.parse((PACKAGE / (node.module.split(".")[1] + ".py")).read_text())
             own = [item.name for item in drawn.body if isinstance(item, (ast.FunctionDef, ast.ClassDef))]
+            own += [target.id for item in drawn.body if isinstance(item, ast.Assign) for target in item.targets]
             for alias in node.names:
                 self.assertIn(alias.name, own, name)
                 self.assertIsNone(alias.asname, name)
+
+    def test_no_two_files_draw_from_one_another(self):
+        drawn = {path.stem: [] for path in files()}
+        for name, node in nodes(ast.ImportFrom):
+            drawn[name.removesuffix(".py")].append(node.module.split(".")[1])
+        while drawn:
+            ready = [name for name in drawn if not set(drawn[name]) & set(drawn)]
+            self.assertTrue(ready, drawn)
+            for name in ready:
+                drawn.pop(name)
+
+    def test_top_of_a_file(self):
+        for path in files():
+            body = ast.parse(path.read_text()).body
+            bound = []
+            for item in body:
+                kinds = (ast.Expr, ast.ImportFrom, ast.Assign, ast.FunctionDef, ast.ClassDef)
+                self.assertIsInstance(item, kinds, (path.name, item.lineno))
+                if isinstance(item, ast.ImportFrom):
+                    bound += [alias.name for alias in item.names]
+                if isinstance(item, ast.Assign):
+                    bound += [target.id for target in item.targets]
+                bound += [item.name] if isinstance(item, (ast.FunctionDef, ast.ClassDef)) else []
+            self.assertEqual(sorted(bound), sorted(set(bound)), path.name)
+            drawn = [alias.name for item in body if isinstance(item, ast.ImportFrom) for alias in item.names]
+            drawn += [item.name for item in body if isinstance(item, ast.ClassDef)]
+            for node in ast.walk(ast.parse(path.read_text())):
+                if isinstance(node, (ast.arg, ast.Name)):
+                    for name in bound_names(node):
+                        self.assertNotIn(name, drawn, (path.name, node.lineno))
+
+    def test_is_stands_beside_written_values_alone(self):
+        for name, node in nodes(ast.Compare):
+            for sign, beside in zip(node.ops, node.comparators):
+                if isinstance(sign, (ast.Is, ast.IsNot)):
+                    self.assertIsInstance(beside, ast.Constant, (name, node.lineno))
+                    self.assertIn(repr(beside.value), ("None", "True", "False"), (name, node.lineno))
 
     def test_functions(self):
         for name, node in nodes(ast.FunctionDef):
