@@ -1,9 +1,11 @@
 """Promise 2 for makerows, tapes and maketapes: what is handed in stays, what is told is the asker's own."""
 
-import copy
 import unittest
 
-from oneofall.errors import NoProgram
+from keeping import (
+    answer, assert_change_behind_a_call_is_nothing, assert_handed_in_is_as_before, assert_lists_are_the_askers_own,
+    assert_same_answer,
+)
 from oneofall.makerows import counter_image, counter_told, make_rows
 from oneofall.maketapes import make_tape, row_image, row_told
 from oneofall.tapes import tape_look, tape_run, tape_step
@@ -33,55 +35,19 @@ QUESTIONS = (
 )
 
 
-def answer(call, things):
-    try:
-        return call(*things)
-    except NoProgram as error:
-        return ("refused", error.at)
-
-
 class Kept(unittest.TestCase):
 
     def test_handed_in_is_as_before(self):
-        for call, things in QUESTIONS:
-            before = copy.deepcopy(things)
-            answer(call, things)
-            self.assertEqual(things, before)
+        assert_handed_in_is_as_before(self, QUESTIONS)
 
     def test_same_question_has_the_same_answer(self):
-        firsts = [answer(call, things) for call, things in QUESTIONS]
-        for turn in range(2):
-            self.assertEqual([answer(call, copy.deepcopy(things)) for call, things in QUESTIONS], firsts)
+        assert_same_answer(self, QUESTIONS)
 
     def test_lists_told_are_the_askers_own(self):
-        for call, things in QUESTIONS:
-            told = answer(call, things)
-            if isinstance(told, list):
-                whole = list(told)
-                told.reverse()
-                told.append("more")
-                again = answer(call, things)
-                self.assertIsNot(again, told)
-                self.assertEqual(again, whole)
-                again.clear()
-                self.assertEqual(answer(call, things), whole)
-
-    def test_lists_told_are_not_those_handed_in(self):
-        for call, things in QUESTIONS:
-            for thing in things:
-                if isinstance(thing, list):
-                    self.assertIsNot(answer(call, things), thing)
+        assert_lists_are_the_askers_own(self, QUESTIONS)
 
     def test_what_is_changed_behind_a_call_changes_nothing_told(self):
-        for call, things in QUESTIONS:
-            mine = copy.deepcopy(things)
-            told = answer(call, mine)
-            whole = copy.deepcopy(told)
-            if isinstance(mine[0], list):
-                mine[0].clear()
-                answer(call, mine)
-                self.assertEqual(told, whole)
-                self.assertEqual(answer(call, copy.deepcopy(things)), whole)
+        assert_change_behind_a_call_is_nothing(self, QUESTIONS)
 
     def test_later_answers_go_by_what_is_handed_in_then(self):
         rules = list(TAPE)
