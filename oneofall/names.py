@@ -1,6 +1,6 @@
 """Stage 6: terms, and names taken out of them."""
 
-from oneofall.trees import folded, is_value, joint
+from oneofall.trees import IDENTITY, folded, is_value, joint
 
 
 def put_in(term, puts):
@@ -58,7 +58,7 @@ def out_and_cost(name, term):
 
 def leaf_taken(name, leaf):
     if leaf == name:
-        return (joint(joint("S", "K"), "K"), 2)
+        return (IDENTITY, 2)
     return None
 
 

@@ -1,5 +1,8 @@
 """Stage 5: trees of two kinds of leaves, their steps and runs."""
 
+# ((S K) K): what is handed to it comes back.
+IDENTITY = (("S", "K", 2, True), "K", 3, True)
+
 
 def joint(left, right):
     return (left, right, leaves(left) + leaves(right), is_done(left, right))

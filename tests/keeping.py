@@ -53,3 +53,21 @@ def assert_change_behind_a_call_is_nothing(case, questions):
                 answer(call, mine)
                 case.assertEqual(told, whole)
                 case.assertEqual(answer(call, copy.deepcopy(things)), whole)
+
+
+class Keeping:
+    """The tests of all that for the questions of a test case."""
+
+    QUESTIONS = ()
+
+    def test_handed_in_is_as_before(self):
+        assert_handed_in_is_as_before(self, self.QUESTIONS)
+
+    def test_same_question_has_the_same_answer(self):
+        assert_same_answer(self, self.QUESTIONS)
+
+    def test_lists_told_are_the_askers_own(self):
+        assert_lists_are_the_askers_own(self, self.QUESTIONS)
+
+    def test_what_is_changed_behind_a_call_changes_nothing_told(self):
+        assert_change_behind_a_call_is_nothing(self, self.QUESTIONS)

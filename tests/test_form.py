@@ -173,6 +173,38 @@ class Form(unittest.TestCase):
             if isinstance(node.func, ast.Attribute):
                 self.assertIn(node.func.attr, own, (name, node.lineno))
 
+    def test_methods_and_values_of_objects(self):
+        methods, values = [], []
+        for name, node in nodes(ast.ClassDef):
+            methods += [item.name for item in node.body if isinstance(item, ast.FunctionDef)]
+        for name, node in nodes(ast.Attribute):
+            if isinstance(node.ctx, ast.Store):
+                values.append(node.attr)
+        self.assertEqual(set(methods) & set(values), set())
+        for value in values:
+            for kind in (str, int, list, dict, set, bytes, tuple):
+                self.assertFalse(hasattr(kind, value), value)
+            self.assertRegex(value, r"^[A-Za-z][A-Za-z0-9_]*$")
+
+    def test_lists_and_dicts_of_a_files_top_are_only_read(self):
+        for path in files():
+            whole = ast.parse(path.read_text())
+            kept = [item.targets[0].id for item in whole.body
+                    if isinstance(item, ast.Assign) and isinstance(item.value, (ast.List, ast.Dict))]
+            read = []
+            for node in ast.walk(whole):
+                if isinstance(node, ast.Subscript) and isinstance(node.ctx, ast.Load):
+                    read.append(node.value)
+                if isinstance(node, (ast.For, ast.comprehension)):
+                    read.append(node.iter)
+                if isinstance(node, ast.Compare):
+                    read += node.comparators
+                if isinstance(node, ast.Attribute) and node.attr == "get":
+                    read.append(node.value)
+            for node in ast.walk(whole):
+                if isinstance(node, ast.Name) and node.id in kept and isinstance(node.ctx, ast.Load):
+                    self.assertIn(node, read, (path.name, node.lineno))
+
     def test_values(self):
         for name, node in nodes(ast.Constant):
             self.assertIn(type(node.value), (int, str, bool, type(None)), (name, node.lineno))

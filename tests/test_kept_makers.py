@@ -2,10 +2,7 @@
 
 import unittest
 
-from keeping import (
-    answer, assert_change_behind_a_call_is_nothing, assert_handed_in_is_as_before, assert_lists_are_the_askers_own,
-    assert_same_answer,
-)
+from keeping import Keeping, answer
 from oneofall.makerows import counter_image, counter_told, make_rows
 from oneofall.maketapes import make_tape, row_image, row_told
 from oneofall.tapes import tape_look, tape_run, tape_step
@@ -35,19 +32,9 @@ QUESTIONS = (
 )
 
 
-class Kept(unittest.TestCase):
+class Kept(Keeping, unittest.TestCase):
 
-    def test_handed_in_is_as_before(self):
-        assert_handed_in_is_as_before(self, QUESTIONS)
-
-    def test_same_question_has_the_same_answer(self):
-        assert_same_answer(self, QUESTIONS)
-
-    def test_lists_told_are_the_askers_own(self):
-        assert_lists_are_the_askers_own(self, QUESTIONS)
-
-    def test_what_is_changed_behind_a_call_changes_nothing_told(self):
-        assert_change_behind_a_call_is_nothing(self, QUESTIONS)
+    QUESTIONS = QUESTIONS
 
     def test_later_answers_go_by_what_is_handed_in_then(self):
         rules = list(TAPE)

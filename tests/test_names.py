@@ -6,6 +6,7 @@ import unittest
 
 from oneofall.names import handed, made_costs, made_of, out_cost, put_in, taken_out
 from oneofall.trees import is_value, joint, leaves, tree_run
+from plaincodes import unlike_names
 from plaintrees import (
     IDENTITY, NAMES, any_nest, any_value, depth, parted, plain_leaves, plain_out, plain_put, plain_value, stands_in,
     tree_of,
@@ -288,7 +289,7 @@ class MadeOf(unittest.TestCase):
         self.assertGreater(words.count("value"), 200)
 
     def test_sixty_names(self):
-        names = sixty_names()
+        names = unlike_names(60)
         values = [joint("K", joint("S", "K"))] * 60
         for k in (0, 30, 59):
             values[k] = "S"
@@ -296,7 +297,7 @@ class MadeOf(unittest.TestCase):
                              ("value", "S", sum(made_costs(names, names[k]))))
 
     def test_sixty_names_handed_one_another(self):
-        names = sixty_names()
+        names = unlike_names(60)
         term = handed(names[0], names[1:])
         made = made_of(names, term)
         self.assertIs(is_value(made), True)
@@ -304,11 +305,6 @@ class MadeOf(unittest.TestCase):
         self.assertEqual(len(costs), len(names))
         self.assertEqual(costs[-1], out_cost(names[-1], term))
         self.assertEqual(costs[0], out_cost(names[0], made_of(names[1:], term)))
-
-
-def sixty_names():
-    letters = "abcdefghijklmnopqrstuvwxyz"
-    return [letters[k // 26] + letters[k % 26] for k in range(60)]
 
 
 class Interface(unittest.TestCase):
